@@ -1,0 +1,1 @@
+"""Rowjudge: books of decision tables judged whole."""
