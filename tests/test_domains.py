@@ -1,30 +1,11 @@
 import unittest
 
+from helpers import GREAT, LETTERS, SIGNS, RefusalCase, many_words, with_sign_at_any_place
 from rowjudge.domains import Domain, Numbers, Words, alike, is_word, number_of, number_text, read_domain
-from rowjudge.errors import BadDomain, BadNumber, Outside, TableError
+from rowjudge.errors import BadDomain, BadNumber, Outside
 
-GREAT = 10 ** 60 - 1
-LETTERS = "abcdefghijklmnopqrstuvwxyz"
-SIGNS = [chr(k) for k in range(32, 127) if chr(k) != "\x25"] + ["\n"]
 STRANGE = [sign for sign in SIGNS if sign not in LETTERS]
 NO_FIGURES = [sign for sign in SIGNS if sign not in "0123456789"]
-
-
-def many_words(how_many):
-    return [LETTERS[k // 26] + LETTERS[k % 26] for k in range(how_many)]
-
-
-def with_sign_at_any_place(text, sign):
-    put_in = [text[:k] + sign + text[k:] for k in range(len(text) + 1)]
-    put_over = [text[:k] + sign + text[k + 1:] for k in range(len(text))]
-    return put_in + put_over
-
-
-class RefusalCase(unittest.TestCase):
-    def assert_refused(self, error, call, *given):
-        with self.assertRaises(TableError) as taken:
-            call(*given)
-        self.assertIs(type(taken.exception), error, given)
 
 
 class IsWord(unittest.TestCase):

@@ -2,21 +2,10 @@ import copy
 import random
 import unittest
 
+from helpers import GREAT, spans_of
 from rowjudge.spans import both, edges, either, holds, many, stretches, tidy, without
 
-GREAT = 10 ** 60 - 1
 FEW = 7
-
-
-def spans_of(numbers):
-    # The plain reading of [1.1]: number by number, beside the program's own ways.
-    told = []
-    for number in sorted(numbers):
-        if told and told[-1][1] == number - 1:
-            told[-1] = (told[-1][0], number)
-        else:
-            told.append((number, number))
-    return told
 
 
 def numbers_of(pairs):
