@@ -1,12 +1,33 @@
 """What several of the tests need."""
 
+import itertools
+import random
 import unittest
 
+from rowjudge.domains import Numbers, Words
 from rowjudge.errors import TableError
+from rowjudge.forms import look
+from rowjudge.tables import Table
 
 GREAT = 10 ** 60 - 1
 LETTERS = "abcdefghijklmnopqrstuvwxyz"
 SIGNS = [chr(k) for k in range(32, 127) if chr(k) != "\x25"] + ["\n"]
+WAYS = ("first", "only", "like", "low", "high", "sum")
+NONE = ("none", 0)
+CLASH = ("clash", 0)
+
+AGE = Numbers(0, 120)
+HUE = Words(["red", "green", "blue"])
+FEE = Numbers(-50, 50)
+ALL_AGES = [(0, 120)]
+ALL_HUES = [(0, 2)]
+FEE_ROWS = [
+    ([[(0, 17)], ALL_HUES], 5),
+    ([[(10, 64)], [(0, 0), (2, 2)]], 20),
+    ([[(0, 9), (65, 120)], [(1, 1)]], 20),
+    ([[], ALL_HUES], 7),
+    ([ALL_AGES, [(2, 2)]], -30),
+]
 
 
 def many_words(how_many):
@@ -30,6 +51,136 @@ def spans_of(numbers):
     return spans
 
 
+def say(code):
+    return ("say", code)
+
+
+# The plain reading of [3.1] for codes that are not empty.
+PLAIN = {
+    "first": lambda codes, outcome: say(codes[0]),
+    "only": lambda codes, outcome: CLASH if codes[1:] else say(codes[0]),
+    "like": lambda codes, outcome: say(codes[0]) if all(code == codes[0] for code in codes) else CLASH,
+    "low": lambda codes, outcome: say(sorted(codes)[0]),
+    "high": lambda codes, outcome: say(sorted(codes)[-1]),
+    "sum": lambda codes, outcome: say(sorted([outcome.low, sum(codes), outcome.high])[1]),
+}
+
+
+def all_codes(bounds):
+    return [list(codes) for codes in itertools.product(*[range(low, high + 1) for low, high in bounds])]
+
+
+def held(spans, code):
+    return any(low <= code <= high for low, high in spans)
+
+
+def plain_mask(rows, codes):
+    bits = ["1" if all(map(held, cells, codes)) else "0" for cells, code in rows]
+    return int("0" + "".join(reversed(bits)), 2)
+
+
+def plain_verdict(table, codes):
+    # Beside the program's own ways.
+    bits = plain_mask(table.rows, codes)
+    said = [code for k, (cells, code) in enumerate(table.rows) if bits >> k & 1]
+    return PLAIN[table.way](said, table.outcome) if said else NONE
+
+
+def plain_bounds(table):
+    return [(domain.low, domain.high) for domain in table.domains]
+
+
+def table_state(table):
+    return (table.name, table.names, table.domains, table.outcome, table.way, table.rows)
+
+
+def fee_table(way="first", rows=FEE_ROWS):
+    return Table("fee", ["age", "hue"], [AGE, HUE], FEE, way, rows)
+
+
+def wide_table(way="sum"):
+    wide = Numbers(-GREAT, GREAT)
+    rows = [
+        ([[(-GREAT, -GREAT)], [(-GREAT, GREAT)]], GREAT),
+        ([[(-GREAT, 0), (GREAT, GREAT)], [(5, GREAT - 1)]], -GREAT),
+        ([[(-GREAT, GREAT)], [(-7, 5)]], GREAT - 3),
+    ]
+    return Table("wide", ["a", "b"], [wide, wide], wide, way, rows)
+
+
+def words_table(way="like"):
+    full = Words(many_words(40))
+    rows = [
+        ([[(0, 0)], [(0, 0), (39, 39)]], 39),
+        ([[(0, 0)], [(3, 20)]], 0),
+        ([[(0, 0)], [(20, 39)]], 7),
+    ]
+    return Table("word", ["a", "b"], [Words(["so"]), full], full, way, rows)
+
+
+def table_of_200_rows(way="sum"):
+    # 30 and 10 stretches, rows that overlap, some of which take no code.
+    chance = random.Random(200)
+    rows = []
+    for k in range(200):
+        first = sorted([chance.randint(0, 29), chance.randint(0, 29)])
+        last = sorted([chance.randint(0, 9), chance.randint(0, 9)])
+        cells = [[(first[0], first[1])], [(last[0], last[1])] if k % 20 else []]
+        rows.append((cells, chance.randint(-9, 9)))
+    return Table("many", ["a", "b"], [Numbers(0, 29), Numbers(0, 9)], Numbers(-20, 20), way, rows)
+
+
+def rough_rows(chance, domains, outcome, most=6):
+    rows = []
+    for k in range(chance.randint(0, most)):
+        cells = []
+        for domain in domains:
+            share = chance.choice([0.3, 0.6, 0.9, 1])
+            cells.append(spans_of([code for code in range(domain.low, domain.high + 1) if chance.random() < share]))
+        rows.append((cells, chance.randint(outcome.low, outcome.high)))
+    return rows
+
+
+def rough_table(seed, way=None):
+    # Small enough to be gone through code by code; 1 to 4 columns, of numbers and of words.
+    chance = random.Random(seed)
+    domains = []
+    for column in range(chance.randint(1, 4)):
+        low = chance.randint(-3, 3)
+        count = chance.randint(1, 4)
+        domains.append(chance.choice([Numbers(low, low + count - 1), Words(many_words(count))]))
+    outcome = Numbers(chance.randint(-2, 0), chance.randint(0, 2))
+    rows = rough_rows(chance, domains, outcome)
+    return Table("t", many_words(len(domains)), domains, outcome, way or chance.choice(WAYS), rows)
+
+
+def alternate_spans(low, high, marks):
+    # Spans that have their edges at the marks, at most 100 pairs in each list.
+    ends = [mark - 1 for mark in marks[1::2]] + ([high] if len(marks) % 2 else [])
+    pairs = list(zip(marks[0::2], ends))
+    return [pairs[k:k + 100] for k in range(0, len(pairs), 100)]
+
+
+def table_with_marks(domains, marks, way="first"):
+    # A table whose marks are just these; its outcome tells which column a row is for.
+    rows = []
+    for column, domain in enumerate(domains):
+        for spans in alternate_spans(domain.low, domain.high, marks[column]):
+            cells = [spans if k == column else other.whole() for k, other in enumerate(domains)]
+            rows.append((cells, column))
+    return Table("t", many_words(len(domains)), domains, Numbers(0, 9), way, rows)
+
+
+def table_of_grain(counts, way="first"):
+    # counts: how many stretches each column falls into.
+    domains = [Numbers(0, 500) for count in counts]
+    return table_with_marks(domains, [list(range(1, count)) for count in counts], way)
+
+
+GRAINS_OF_300 = ([300], [15, 20], [2, 3, 50], [5, 5, 4, 3])
+GRAINS_ABOVE_300 = ([301], [7, 43], [301, 1], [2, 151], [1, 7, 43], [4, 4, 19, 1], [1, 1, 7, 43])
+
+
 class RefusalCase(unittest.TestCase):
     def assert_refused(self, error, call, *given):
         with self.assertRaises(TableError) as taken:
@@ -49,3 +200,49 @@ class RefusalCase(unittest.TestCase):
             self.assertEqual(len(told), len(kinds), told)
             for part, kind in zip(told, kinds):
                 self.assert_kinds(part, kind)
+
+
+class BoxCase(RefusalCase):
+    def assert_box(self, box, bounds):
+        self.assertIs(type(box), tuple)
+        self.assertEqual(len(box), len(bounds), box)
+        for pair, (low, high) in zip(box, bounds):
+            self.assert_kinds(pair, (int, int))
+            self.assertTrue(low <= pair[0] <= pair[1] <= high, (box, bounds))
+
+    def assert_boxes(self, told, bounds):
+        # Told boxes ascend, lie within the bounds, and no two of them have codes in common.
+        self.assertEqual(told, sorted(told))
+        for box in told:
+            self.assert_box(box, bounds)
+        for one, other in itertools.combinations(told, 2):
+            shared = all(max(a[0], b[0]) <= min(a[1], b[1]) for a, b in zip(one, other))
+            self.assertFalse(shared, (one, other))
+
+
+class FormCase(RefusalCase):
+    def assert_form(self, form, bounds):
+        # [4.1], rule by rule.
+        if not bounds:
+            self.assertIn(type(form), (int, tuple))
+            if type(form) is tuple:
+                self.assert_kinds(form, (str, int))
+            return
+        self.assertIs(type(form), tuple)
+        due = bounds[0][0]
+        for triple in form:
+            self.assertIs(type(triple), tuple)
+            low, high, beneath = triple
+            self.assert_kinds((low, high), (int, int))
+            self.assertEqual(low, due)
+            self.assertLessEqual(low, high)
+            self.assert_form(beneath, bounds[1:])
+            due = high + 1
+        self.assertEqual(due, bounds[0][1] + 1)
+        for one, other in zip(form, form[1:]):
+            self.assertNotEqual(one[2], other[2])
+
+    def assert_tells(self, form, bounds, leaf):
+        self.assert_form(form, bounds)
+        for codes in all_codes(bounds):
+            self.assertEqual(look(form, codes), leaf(codes), codes)

@@ -4,19 +4,9 @@ import math
 import random
 import unittest
 
-from helpers import GREAT, RefusalCase
+from helpers import GREAT, NONE, FormCase, RefusalCase, all_codes, say
 from rowjudge.errors import TooFine
 from rowjudge.forms import boxes, built, corner, grain, look, mapped, marks_of, paired, volume
-
-NONE = ("none", 0)
-
-
-def say(code):
-    return ("say", code)
-
-
-def all_codes(bounds):
-    return [list(codes) for codes in itertools.product(*[range(low, high + 1) for low, high in bounds])]
 
 
 def every_mark(bounds):
@@ -67,34 +57,6 @@ def rough_cases(count):
     for seed in range(count):
         bounds = rough_bounds(seed)
         yield bounds, rough(seed, NUMBER_LEAVES if seed % 2 else PAIR_LEAVES)
-
-
-class FormCase(RefusalCase):
-    def assert_form(self, form, bounds):
-        # [4.1], rule by rule.
-        if not bounds:
-            self.assertIn(type(form), (int, tuple))
-            if type(form) is tuple:
-                self.assert_kinds(form, (str, int))
-            return
-        self.assertIs(type(form), tuple)
-        due = bounds[0][0]
-        for triple in form:
-            self.assertIs(type(triple), tuple)
-            low, high, beneath = triple
-            self.assert_kinds((low, high), (int, int))
-            self.assertEqual(low, due)
-            self.assertLessEqual(low, high)
-            self.assert_form(beneath, bounds[1:])
-            due = high + 1
-        self.assertEqual(due, bounds[0][1] + 1)
-        for one, other in zip(form, form[1:]):
-            self.assertNotEqual(one[2], other[2])
-
-    def assert_tells(self, form, bounds, leaf):
-        self.assert_form(form, bounds)
-        for codes in all_codes(bounds):
-            self.assertEqual(look(form, codes), leaf(codes), codes)
 
 
 class Grain(RefusalCase):

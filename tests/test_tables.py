@@ -3,49 +3,14 @@ import itertools
 import random
 import unittest
 
-from helpers import GREAT, RefusalCase, many_words, spans_of
+from helpers import (
+    AGE, ALL_AGES, ALL_HUES, CLASH, FEE, FEE_ROWS, GREAT, HUE, NONE, WAYS, RefusalCase, fee_table, many_words, plain_mask,
+    say, spans_of, table_state,
+)
 from rowjudge.domains import Numbers, Words
 from rowjudge.errors import BadName, BadRow, BadWay, Clash, Hole, Outside, TooMany
 from rowjudge.tables import Table, answer, coded, fits, judged, mask, verdict, with_rows
 from rowjudge.ways import way_by
-
-WAYS = ("first", "only", "like", "low", "high", "sum")
-AGE = Numbers(0, 120)
-HUE = Words(["red", "green", "blue"])
-FEE = Numbers(-50, 50)
-ALL_AGES = [(0, 120)]
-ALL_HUES = [(0, 2)]
-NONE = ("none", 0)
-CLASH = ("clash", 0)
-
-ROWS = [
-    ([[(0, 17)], ALL_HUES], 5),
-    ([[(10, 64)], [(0, 0), (2, 2)]], 20),
-    ([[(0, 9), (65, 120)], [(1, 1)]], 20),
-    ([[], ALL_HUES], 7),
-    ([ALL_AGES, [(2, 2)]], -30),
-]
-
-
-def say(code):
-    return ("say", code)
-
-
-def fee_table(way="first", rows=ROWS):
-    return Table("fee", ["age", "hue"], [AGE, HUE], FEE, way, rows)
-
-
-def held(spans, code):
-    return any(low <= code <= high for low, high in spans)
-
-
-def plain_mask(rows, codes):
-    bits = ["1" if all(map(held, cells, codes)) else "0" for cells, code in rows]
-    return int("0" + "".join(reversed(bits)), 2)
-
-
-def table_state(table):
-    return (table.name, table.names, table.domains, table.outcome, table.way, table.rows)
 
 
 class Fields(RefusalCase):
@@ -56,7 +21,7 @@ class Fields(RefusalCase):
         self.assertEqual(table.domains, [AGE, HUE])
         self.assertIs(table.outcome, FEE)
         self.assertEqual(table.way, "first")
-        self.assertEqual(table.rows, ROWS)
+        self.assertEqual(table.rows, FEE_ROWS)
         self.assert_kinds(table.names, [str])
         self.assert_kinds(table.rows, [([[(int, int)]], int)])
 
@@ -67,7 +32,7 @@ class Fields(RefusalCase):
     def test_lists_of_its_own(self):
         names = ["age", "hue"]
         domains = [AGE, HUE]
-        rows = copy.deepcopy(ROWS)
+        rows = copy.deepcopy(FEE_ROWS)
         table = Table("fee", names, domains, FEE, "first", rows)
         names.append("more")
         domains[0] = HUE
@@ -77,7 +42,7 @@ class Fields(RefusalCase):
         rows.append(([ALL_AGES, ALL_HUES], 1))
         self.assertEqual(table.names, ["age", "hue"])
         self.assertEqual(table.domains, [AGE, HUE])
-        self.assertEqual(table.rows, ROWS)
+        self.assertEqual(table.rows, FEE_ROWS)
         self.assertEqual(verdict(table, [55, 1]), NONE)
 
     def test_rows_that_share_a_list(self):
@@ -93,9 +58,9 @@ class Fields(RefusalCase):
     def test_nothing_handed_in_is_changed(self):
         names = ["age", "hue"]
         domains = [AGE, HUE]
-        rows = copy.deepcopy(ROWS)
+        rows = copy.deepcopy(FEE_ROWS)
         Table("fee", names, domains, FEE, "sum", rows)
-        self.assertEqual((names, domains, rows), (["age", "hue"], [AGE, HUE], ROWS))
+        self.assertEqual((names, domains, rows), (["age", "hue"], [AGE, HUE], FEE_ROWS))
 
 
 class Bounds(RefusalCase):
@@ -359,7 +324,7 @@ class Answering(RefusalCase):
             told = answer(fee_table(way), [12, "red"])
             self.assertEqual(told, expected)
             self.assertIs(type(told), int)
-        self.assertEqual(answer(fee_table("like", ROWS[1:3]), [100, "green"]), 20)
+        self.assertEqual(answer(fee_table("like", FEE_ROWS[1:3]), [100, "green"]), 20)
 
     def test_answer_nought(self):
         self.assertEqual(answer(fee_table("first", [([ALL_AGES, ALL_HUES], 0)]), [1, "red"]), 0)
@@ -397,18 +362,18 @@ class WithRows(RefusalCase):
         self.assertIs(type(other), Table)
         self.assertIsNot(other, table)
         self.assertEqual(table_state(other), ("fee", ["age", "hue"], [AGE, HUE], FEE, "sum", rows))
-        self.assertEqual(table_state(table), ("fee", ["age", "hue"], [AGE, HUE], FEE, "sum", ROWS))
+        self.assertEqual(table_state(table), ("fee", ["age", "hue"], [AGE, HUE], FEE, "sum", FEE_ROWS))
         self.assertEqual(with_rows(table, []).rows, [])
         self.assertEqual(verdict(other, [1, 1]), say(9))
 
     def test_lists_of_its_own(self):
         table = fee_table()
-        rows = copy.deepcopy(ROWS)
+        rows = copy.deepcopy(FEE_ROWS)
         other = with_rows(table, rows)
         again = with_rows(table, table.rows)
         rows[0][0][0].append((50, 60))
         rows.pop()
-        self.assertEqual(other.rows, ROWS)
+        self.assertEqual(other.rows, FEE_ROWS)
         self.assertIsNot(other.names, table.names)
         self.assertIsNot(other.domains, table.domains)
         self.assertIsNot(again.rows, table.rows)
@@ -425,7 +390,7 @@ class WithRows(RefusalCase):
         self.assert_refused(TooMany, with_rows, table, [([], 99)] * 201)
         for bad in (([ALL_AGES], 0), ([[(0, 121)], ALL_HUES], 0), ([ALL_AGES, ALL_HUES], 51)):
             self.assert_refused(BadRow, with_rows, table, [row, bad])
-        self.assertEqual(table.rows, ROWS)
+        self.assertEqual(table.rows, FEE_ROWS)
 
 
 if __name__ == "__main__":

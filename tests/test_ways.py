@@ -1,7 +1,7 @@
 import itertools
 import unittest
 
-from helpers import GREAT, SIGNS, RefusalCase, with_sign_at_any_place
+from helpers import CLASH, GREAT, NONE, PLAIN, SIGNS, RefusalCase, say, with_sign_at_any_place
 from rowjudge.domains import Numbers, Words
 from rowjudge.errors import BadWay
 from rowjudge.ways import First, High, Like, Low, Only, Sum, Way, way_by
@@ -9,23 +9,6 @@ from rowjudge.ways import First, High, Like, Low, Only, Sum, Way, way_by
 KINDS = {"first": First, "only": Only, "like": Like, "low": Low, "high": High, "sum": Sum}
 SCORE = Numbers(-10, 10)
 HUE = Words(["red", "green", "blue"])
-NONE = ("none", 0)
-CLASH = ("clash", 0)
-
-
-def say(code):
-    return ("say", code)
-
-
-# The plain reading of [3.1] for codes that are not empty.
-PLAIN = {
-    "first": lambda codes, outcome: say(codes[0]),
-    "only": lambda codes, outcome: CLASH if codes[1:] else say(codes[0]),
-    "like": lambda codes, outcome: say(codes[0]) if all(code == codes[0] for code in codes) else CLASH,
-    "low": lambda codes, outcome: say(sorted(codes)[0]),
-    "high": lambda codes, outcome: say(sorted(codes)[-1]),
-    "sum": lambda codes, outcome: say(sorted([outcome.low, sum(codes), outcome.high])[1]),
-}
 
 
 class WayBy(RefusalCase):
