@@ -46,11 +46,16 @@ def judged_tiles(table):
 
 # The boxes of a form ascend, so the corner of the first one that is found is the least list of codes.
 def reason_among(table, tiles, k):
-    bit = 1 << k
-    for box, rows, told in tiles:
-        if rows & bit and judged(table, rows - bit) != told:
-            return corner(box)
+    for tile in tiles:
+        if leans_on(table, tile, k):
+            return corner(tile[0])
     return None
+
+
+def leans_on(table, tile, k):
+    bit = 1 << k
+    rows = tile[1]
+    return (rows & bit) > 0 and judged(table, rows - bit) != tile[2]
 
 
 def first_unlike(one, other):

@@ -44,6 +44,22 @@ def both(ones, others):
     return shared
 
 
+# As `both` goes, but it ends at the first number that is found.
+def meet(ones, others):
+    at_one = 0
+    at_other = 0
+    while at_one < len(ones) and at_other < len(others):
+        one = ones[at_one]
+        other = others[at_other]
+        if one[1] < other[0]:
+            at_one += 1
+        elif other[1] < one[0]:
+            at_other += 1
+        else:
+            return True
+    return False
+
+
 def without(ones, others):
     if not ones:
         return []

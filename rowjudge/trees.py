@@ -1,6 +1,7 @@
 """Trees of questions: ("say", verdict), or ("ask", column, cut, below, above)."""
 
 SAY = "say"
+ASK = "ask"
 BELOW = "below"
 ABOVE = "above"
 

@@ -1,5 +1,6 @@
 """What several of the tests need."""
 
+import copy
 import itertools
 import random
 import unittest
@@ -21,6 +22,7 @@ HUE = Words(["red", "green", "blue"])
 FEE = Numbers(-50, 50)
 ALL_AGES = [(0, 120)]
 ALL_HUES = [(0, 2)]
+EVERYWHERE = [ALL_AGES, ALL_HUES]
 FEE_ROWS = [
     ([[(0, 17)], ALL_HUES], 5),
     ([[(10, 64)], [(0, 0), (2, 2)]], 20),
@@ -90,12 +92,21 @@ def plain_bounds(table):
     return [(domain.low, domain.high) for domain in table.domains]
 
 
+def plain_without(table, k):
+    return Table(table.name, table.names, table.domains, table.outcome, table.way,
+                 [row for place, row in enumerate(table.rows) if place != k])
+
+
 def table_state(table):
     return (table.name, table.names, table.domains, table.outcome, table.way, table.rows)
 
 
 def fee_table(way="first", rows=FEE_ROWS):
     return Table("fee", ["age", "hue"], [AGE, HUE], FEE, way, rows)
+
+
+def age_table(way, rows, outcome=FEE):
+    return Table("t", ["age"], [AGE], outcome, way, [([spans], code) for spans, code in rows])
 
 
 def wide_table(way="sum"):
@@ -177,6 +188,22 @@ def table_of_grain(counts, way="first"):
     return table_with_marks(domains, [list(range(1, count)) for count in counts], way)
 
 
+def unlike_tables(rows):
+    # Each is unlike fee_table by one cause: how many columns, a column's domain, or the outcome's.
+    hue = [HUE.whole()]
+    yield Table("fee", ["age"], [AGE], FEE, "first", [(cells[:1], code) for cells, code in rows])
+    yield Table("fee", ["age", "hue", "more"], [AGE, HUE, HUE], FEE, "first", [(cells + hue, code) for cells, code in rows])
+    yield Table("fee", ["age", "hue"], [Numbers(0, 121), HUE], FEE, "first", rows)
+    yield Table("fee", ["age", "hue"], [Numbers(-1, 120), HUE], FEE, "first", rows)
+    yield Table("fee", ["age", "hue"], [AGE, Words(["red", "green", "blue", "pink"])], FEE, "first", rows)
+    yield Table("fee", ["age", "hue"], [AGE, Words(["red", "blue", "green"])], FEE, "first", rows)
+    yield Table("fee", ["age", "hue"], [AGE, Words(["red", "green", "pink"])], FEE, "first", rows)
+    yield Table("fee", ["age", "hue"], [AGE, Numbers(0, 2)], FEE, "first", rows)
+    yield Table("fee", ["age", "hue"], [AGE, HUE], Numbers(-50, 51), "first", rows)
+    yield Table("fee", ["age", "hue"], [AGE, HUE], Numbers(-51, 50), "first", rows)
+    yield Table("fee", ["age", "hue"], [AGE, HUE], Words(many_words(21)), "first", [(cells, 1) for cells, code in rows])
+
+
 GRAINS_OF_300 = ([300], [15, 20], [2, 3, 50], [5, 5, 4, 3])
 GRAINS_ABOVE_300 = ([301], [7, 43], [301, 1], [2, 151], [1, 7, 43], [4, 4, 19, 1], [1, 1, 7, 43])
 
@@ -200,6 +227,42 @@ class RefusalCase(unittest.TestCase):
             self.assertEqual(len(told), len(kinds), told)
             for part, kind in zip(told, kinds):
                 self.assert_kinds(part, kind)
+
+
+class TurnCase(RefusalCase):
+    def assert_same_verdicts(self, told, table):
+        for codes in all_codes(plain_bounds(table)):
+            self.assertEqual(plain_verdict(told, codes), plain_verdict(table, codes), (codes, table.way, table.rows))
+
+    def assert_head(self, told, table, way=None):
+        # The same but for its rows, or for its rows and its way.
+        self.assertIs(type(told), Table)
+        self.assertEqual(table_state(told)[:4], table_state(table)[:4])
+        self.assertEqual(told.way, way or table.way)
+
+    def assert_lists_of_its_own(self, call, way="first"):
+        # What is told of fee_table shares no list with it.
+        table = fee_table(way, copy.deepcopy(FEE_ROWS))
+        told = call(table)
+        kept = copy.deepcopy(told.rows)
+        for cells, code in told.rows:
+            for spans in cells:
+                spans.append((99, 99))
+            cells.clear()
+        told.rows.clear()
+        told.names.append("more")
+        told.domains.clear()
+        self.assertEqual(table_state(table), ("fee", ["age", "hue"], [AGE, HUE], FEE, way, FEE_ROWS))
+        again = call(table)
+        self.assertEqual(again.rows, kept)
+        for cells, code in table.rows:
+            for spans in cells:
+                spans.clear()
+            cells.clear()
+        table.rows.clear()
+        table.names.clear()
+        self.assertEqual(again.rows, kept)
+        self.assertEqual(len(again.names), 2)
 
 
 class BoxCase(RefusalCase):

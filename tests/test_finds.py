@@ -4,21 +4,16 @@ import random
 import unittest
 
 from helpers import (
-    AGE, ALL_AGES, ALL_HUES, CLASH, FEE, FEE_ROWS, GRAINS_ABOVE_300, GRAINS_OF_300, GREAT, HUE, NONE, WAYS, BoxCase,
-    RefusalCase, all_codes, fee_table, many_words, plain_bounds, plain_mask, plain_verdict, rough_rows, rough_table, say,
-    table_of_200_rows, table_of_grain, table_state, wide_table, words_table,
+    AGE, ALL_AGES, ALL_HUES, CLASH, EVERYWHERE, FEE, FEE_ROWS, GRAINS_ABOVE_300, GRAINS_OF_300, GREAT, HUE, NONE, WAYS,
+    BoxCase, RefusalCase, age_table, all_codes, fee_table, many_words, plain_bounds, plain_mask, plain_verdict,
+    plain_without, rough_rows, rough_table, say, table_of_200_rows, table_of_grain, table_state, unlike_tables, wide_table,
+    words_table,
 )
 from rowjudge.domains import Numbers, Words
 from rowjudge.errors import TooFine, Unlike
 from rowjudge.finds import changes, clashes, first_unlike, holes, idle, reason, same_everywhere, without_row
 from rowjudge.forms import volume
 from rowjudge.tables import Table, verdict, with_rows
-
-EVERYWHERE = [ALL_AGES, ALL_HUES]
-
-
-def age_table(way, rows, outcome=FEE):
-    return Table("t", ["age"], [AGE], outcome, way, [([spans], code) for spans, code in rows])
 
 
 def rough_pair(seed):
@@ -29,11 +24,6 @@ def rough_pair(seed):
     if seed % 3 == 0:
         rows = one.rows + rows[:1]
     return one, Table("other", one.names, one.domains, one.outcome, chance.choice(WAYS), rows)
-
-
-def plain_without(table, k):
-    return Table(table.name, table.names, table.domains, table.outcome, table.way,
-                 [row for place, row in enumerate(table.rows) if place != k])
 
 
 def plain_unlike(one, other):
@@ -439,23 +429,9 @@ class Refusals(RefusalCase):
         self.assert_refused(TooFine, reason, finer, len(finer.rows) - 1)
         self.assertIsNotNone(reason(without_row(finer, len(finer.rows) - 1), 0))
 
-    def unlike_tables(self, rows):
-        hue = [HUE.whole()]
-        yield Table("fee", ["age"], [AGE], FEE, "first", [(cells[:1], code) for cells, code in rows])
-        yield Table("fee", ["age", "hue", "more"], [AGE, HUE, HUE], FEE, "first", [(cells + hue, code) for cells, code in rows])
-        yield Table("fee", ["age", "hue"], [Numbers(0, 121), HUE], FEE, "first", rows)
-        yield Table("fee", ["age", "hue"], [Numbers(-1, 120), HUE], FEE, "first", rows)
-        yield Table("fee", ["age", "hue"], [AGE, Words(["red", "green", "blue", "pink"])], FEE, "first", rows)
-        yield Table("fee", ["age", "hue"], [AGE, Words(["red", "blue", "green"])], FEE, "first", rows)
-        yield Table("fee", ["age", "hue"], [AGE, Words(["red", "green", "pink"])], FEE, "first", rows)
-        yield Table("fee", ["age", "hue"], [AGE, Numbers(0, 2)], FEE, "first", rows)
-        yield Table("fee", ["age", "hue"], [AGE, HUE], Numbers(-50, 51), "first", rows)
-        yield Table("fee", ["age", "hue"], [AGE, HUE], Numbers(-51, 50), "first", rows)
-        yield Table("fee", ["age", "hue"], [AGE, HUE], Words(many_words(21)), "first", [(cells, 1) for cells, code in rows])
-
     def test_unlike(self):
         for rows in ([], FEE_ROWS):
-            for other in self.unlike_tables(rows):
+            for other in unlike_tables(rows):
                 for call in self.TWO_TABLES:
                     self.assert_refused(Unlike, call, fee_table("first", rows), other)
                     self.assert_refused(Unlike, call, other, fee_table("first", rows))
@@ -483,7 +459,7 @@ class Refusals(RefusalCase):
         fine = [([[(2 * k, 2 * k) for k in range(1, 55)], [(1, 1)]], 1)]
         self.assert_refused(TooFine, same_everywhere, fee_table("first", fine), fee_table("first", fine))
         for rows in ([], fine):
-            for other in self.unlike_tables(fine):
+            for other in unlike_tables(fine):
                 for call in self.TWO_TABLES:
                     self.assert_refused(Unlike, call, fee_table("first", rows), other)
                     self.assert_refused(Unlike, call, other, fee_table("first", rows))

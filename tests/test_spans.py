@@ -3,7 +3,7 @@ import random
 import unittest
 
 from helpers import GREAT, spans_of
-from rowjudge.spans import both, edges, either, holds, many, stretches, tidy, without
+from rowjudge.spans import both, edges, either, holds, many, meet, stretches, tidy, without
 
 FEW = 7
 
@@ -177,6 +177,7 @@ class TwoSets(SpansCase):
                 self.assertEqual(either(one, other), spans_of(ones | others))
                 self.assertEqual(both(one, other), spans_of(ones & others))
                 self.assertEqual(without(one, other), spans_of(ones - others))
+                self.assertIs(meet(one, other), len(ones & others) > 0)
 
     def test_empty(self):
         some = [(1, 3), (5, 5)]
@@ -198,6 +199,8 @@ class TwoSets(SpansCase):
         self.assert_tells(both([(1, 5)], [(5, 9)]), [(5, 5)])
         self.assert_tells(both([(1, 5)], [(6, 9)]), [])
         self.assert_tells(both([(1, 9)], [(-4, 1), (3, 4), (9, 12)]), [(1, 1), (3, 4), (9, 9)])
+        self.assertIs(meet([(1, 5)], [(5, 9)]), True)
+        self.assertIs(meet([(1, 5)], [(6, 9)]), False)
 
     def test_without_at_the_ends(self):
         self.assert_tells(without([(1, 9)], [(1, 1), (9, 9)]), [(2, 8)])
@@ -215,6 +218,7 @@ class TwoSets(SpansCase):
             self.assert_tells(either(one, other), spans_of(ones | others))
             self.assert_tells(both(one, other), spans_of(ones & others))
             self.assert_tells(without(one, other), spans_of(ones - others))
+            self.assertIs(meet(one, other), len(ones & others) > 0)
 
     def test_400_pairs_between_400_pairs(self):
         one = [(4 * k, 4 * k) for k in range(400)]
@@ -222,6 +226,8 @@ class TwoSets(SpansCase):
         self.assert_tells(either(one, other), [(2 * k, 2 * k) for k in range(800)])
         self.assert_tells(both(one, other), [])
         self.assert_tells(without(one, other), one)
+        self.assertIs(meet(one, other), False)
+        self.assertIs(meet(one, other[:-1] + one[-1:]), True)
 
     def test_60_figures(self):
         everything = [(-GREAT, GREAT)]
