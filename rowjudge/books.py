@@ -85,8 +85,12 @@ def put_behind(book, name, order):
     order.append(name)
 
 
+def tables_for(book, name):
+    return [table_of(book, needed) for needed in order_of(book, name)]
+
+
 def needs(book, name):
     columns = []
-    for asked in order_of(book, name):
-        columns.extend(table_of(book, asked).names)
+    for table in tables_for(book, name):
+        columns.extend(table.names)
     return [fact for fact, domain in book.facts if fact in columns]

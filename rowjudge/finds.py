@@ -59,7 +59,7 @@ def leans_on(table, tile, k):
 
 
 def first_unlike(one, other):
-    found = unlike_boxes(one, other)
+    found = changes(one, other)
     return corner(found[0][0]) if found else None
 
 
@@ -68,15 +68,14 @@ def same_everywhere(one, other):
 
 
 def changes(one, other):
-    return [(box, told[0], told[1]) for box, told in unlike_boxes(one, other)]
-
-
-# A leaf here is a pair of verdicts, wider than what an asker is told of forms; it stays within this file.
-def unlike_boxes(one, other):
     refuse_unlike(one, other)
-    deep = len(one.domains)
-    differing = paired(verdict_form(one), verdict_form(other), deep, differing_pair)
-    return boxes_with_leaf(differing, deep)
+    return changed_boxes(verdict_form(one), verdict_form(other), len(one.domains))
+
+
+# A leaf here is a pair of verdicts, wider than what an asker is told of forms; it stays within this def.
+def changed_boxes(old, new, deep):
+    differing = paired(old, new, deep, differing_pair)
+    return [(box, told[0], told[1]) for box, told in boxes_with_leaf(differing, deep)]
 
 
 def differing_pair(old, new):
@@ -84,8 +83,12 @@ def differing_pair(old, new):
 
 
 def refuse_unlike(one, other):
-    if len(one.domains) != len(other.domains):
-        raise Unlike("one table has more columns than the other")
-    for own, others in zip(one.domains + [one.outcome], other.domains + [other.outcome]):
-        if not alike(own, others):
+    refuse_unlike_domains(one.domains + [one.outcome], other.domains + [other.outcome])
+
+
+def refuse_unlike_domains(ones, others):
+    if len(ones) != len(others):
+        raise Unlike("one has more columns than the other")
+    for one, other in zip(ones, others):
+        if not alike(one, other):
             raise Unlike("two domains are not alike")

@@ -12,11 +12,14 @@ def rows_of(form, deep):
 
 
 def spread(table):
-    deep = len(table.domains)
-    form = verdict_form(table)
+    return spread_form(table.name, table.names, table.domains, table.outcome, verdict_form(table))
+
+
+def spread_form(name, names, domains, outcome, form):
+    deep = len(names)
     refuse_clashes(form, deep)
     # There is a row for each box that says a code, so Table's own refusal comes just where TooMany is due.
-    return Table(table.name, table.names, table.domains, table.outcome, "only", rows_of(form, deep))
+    return Table(name, names, domains, outcome, "only", rows_of(form, deep))
 
 
 def refuse_clashes(form, deep):

@@ -5,6 +5,7 @@ import itertools
 import random
 import unittest
 
+from rowjudge.books import Book
 from rowjudge.domains import Numbers, Words
 from rowjudge.errors import TableError
 from rowjudge.forms import look
@@ -30,6 +31,25 @@ FEE_ROWS = [
     ([[], ALL_HUES], 7),
     ([ALL_AGES, [(2, 2)]], -30),
 ]
+
+
+def due_text(fee_way, odd_way):
+    # A book of three facts and three tables, two of which ask another one.
+    return "\n".join([
+        "fact hue red, green, blue",
+        "fact age 0..120",
+        "fact size -3..3",
+        "table due: fee, age -> red, green, blue by first",
+        "when ..5 | - -> blue",
+        "when 20 | 18..90 -> green",
+        "table fee: age, hue -> 0..50 by " + fee_way,
+        "when ..17 | not green -> 5",
+        "when 10..64 | red -> 20",
+        "table odd: size, due -> 0..9 by " + odd_way,
+        "when ..-1 | - -> 1",
+        "when 0.. | blue -> 7",
+        "when 2.. | - -> 4",
+    ])
 
 
 def many_words(how_many):
@@ -152,17 +172,84 @@ def rough_rows(chance, domains, outcome, most=6):
     return rows
 
 
+def rough_domain(chance, most=4):
+    low = chance.randint(-3, 3)
+    count = chance.randint(1, most)
+    return chance.choice([Numbers(low, low + count - 1), Words(many_words(count))])
+
+
 def rough_table(seed, way=None):
     # Small enough to be gone through code by code; 1 to 4 columns, of numbers and of words.
     chance = random.Random(seed)
-    domains = []
-    for column in range(chance.randint(1, 4)):
-        low = chance.randint(-3, 3)
-        count = chance.randint(1, 4)
-        domains.append(chance.choice([Numbers(low, low + count - 1), Words(many_words(count))]))
+    domains = [rough_domain(chance) for column in range(chance.randint(1, 4))]
     outcome = Numbers(chance.randint(-2, 0), chance.randint(0, 2))
     rows = rough_rows(chance, domains, outcome)
     return Table("t", many_words(len(domains)), domains, outcome, way or chance.choice(WAYS), rows)
+
+
+def rough_book(seed, ways=WAYS):
+    # Tables ask such as are made earlier here; then facts and tables are put into any order.
+    chance = random.Random(seed)
+    facts = [("f" + letter, rough_domain(chance, 3)) for letter in LETTERS[:chance.randint(1, 4)]]
+    tables = []
+    for letter in LETTERS[:chance.randint(1, 6)]:
+        asked = [(table.name, table.outcome) for table in tables]
+        columns = dict(chance.choice(facts + asked * 2) for k in range(chance.randint(1, 4)))
+        outcome = rough_domain(chance, 3)
+        way = chance.choice([way for way in ways if way != "sum" or isinstance(outcome, Numbers)])
+        domains = list(columns.values())
+        rows = rough_rows(chance, domains, outcome)
+        tables.append(Table("t" + letter, list(columns), domains, outcome, way, rows))
+    chance.shuffle(facts)
+    chance.shuffle(tables)
+    return Book(facts, tables)
+
+
+def plain_needs(book, name):
+    facts = [fact for fact, domain in book.facts]
+    tables = {table.name: table.names for table in book.tables}
+    names = {name}
+    while not all(set(tables[asked]) <= names for asked in names if asked in tables):
+        names |= {column for asked in names if asked in tables for column in tables[asked]}
+    return [fact for fact in facts if fact in names]
+
+
+def plain_ask(book, name, codes):
+    # The plain reading of [9.1], beside the program's own ways; codes: a dict from facts to their codes.
+    if name in codes:
+        return say(codes[name])
+    table = [table for table in book.tables if table.name == name][0]
+    told = [plain_ask(book, column, codes) for column in table.names]
+    silent = [verdict for verdict in told if verdict[0] != "say"]
+    return silent[0] if silent else plain_verdict(table, [code for kind, code in told])
+
+
+def plain_fact_bounds(book, name):
+    domains = dict(book.facts)
+    return [(domains[fact].low, domains[fact].high) for fact in plain_needs(book, name)]
+
+
+def plain_verdicts(book, name):
+    # All codes of the facts that are needed, each with the verdict there.
+    facts = plain_needs(book, name)
+    every = all_codes(plain_fact_bounds(book, name))
+    return [(codes, plain_ask(book, name, dict(zip(facts, codes)))) for codes in every]
+
+
+def book_state(book):
+    return (book.facts, [table_state(table) for table in book.tables])
+
+
+def counted_table(count, pattern, way="first", last=None):
+    # One column in which the pattern's codes take turns, None standing for no row: each code is a box of its own.
+    places = [pattern[k % len(pattern)] for k in range(count)]
+    if last is not None:
+        places[-1] = last
+    rows = []
+    for code in sorted({code for code in places if code is not None}):
+        spans = [(k, k) for k, own in enumerate(places) if own == code]
+        rows += [([spans[k:k + 100]], code) for k in range(0, len(spans), 100)]
+    return Table("t", ["a"], [Numbers(0, count - 1)], Numbers(0, 9), way, rows)
 
 
 def alternate_spans(low, high, marks):

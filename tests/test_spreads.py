@@ -3,8 +3,9 @@ import random
 import unittest
 
 from helpers import (
-    CLASH, EVERYWHERE, FEE, GRAINS_ABOVE_300, GREAT, HUE, NONE, WAYS, TurnCase, age_table, all_codes, fee_table, held,
-    many_words, plain_bounds, plain_verdict, rough_table, say, spans_of, table_of_grain, wide_table, words_table,
+    CLASH, EVERYWHERE, FEE, GRAINS_ABOVE_300, GREAT, HUE, NONE, WAYS, TurnCase, age_table, all_codes, counted_table,
+    fee_table, held, many_words, plain_bounds, plain_verdict, rough_table, say, spans_of, table_of_grain, wide_table,
+    words_table,
 )
 from rowjudge.domains import Numbers, Words
 from rowjudge.errors import Clash, TooFine, TooMany
@@ -14,18 +15,6 @@ from rowjudge.layers import verdict_form
 from rowjudge.spreads import rows_of, spread
 from rowjudge.tables import Table, with_rows
 from rowjudge.turns import apart
-
-
-def counted_table(count, pattern, way="first", last=None):
-    # One column in which the pattern's codes take turns, None standing for no row: each code is a box of its own.
-    places = [pattern[k % len(pattern)] for k in range(count)]
-    if last is not None:
-        places[-1] = last
-    rows = []
-    for code in sorted({code for code in places if code is not None}):
-        spans = [(k, k) for k, own in enumerate(places) if own == code]
-        rows += [([spans[k:k + 100]], code) for k in range(0, len(spans), 100)]
-    return Table("t", ["a"], [Numbers(0, count - 1)], Numbers(0, 9), way, rows)
 
 
 def how_many_say(table):
